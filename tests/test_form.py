@@ -1,0 +1,89 @@
+import ast
+import pathlib
+import unittest
+
+PACKAGE = pathlib.Path(__file__).resolve().parent.parent / "farfloor"
+
+STATEMENTS = (
+    ast.FunctionDef, ast.ClassDef, ast.ImportFrom, ast.Assign, ast.AugAssign, ast.If, ast.While, ast.For,
+    ast.Return, ast.Break, ast.Continue, ast.Pass, ast.Raise, ast.Try, ast.Expr,
+)
+NO_EXPRESSIONS = (
+    ast.SetComp, ast.DictComp, ast.GeneratorExp, ast.NamedExpr, ast.Starred, ast.Await, ast.Yield, ast.YieldFrom,
+)
+BUILTINS = set(dir(__builtins__) if not isinstance(__builtins__, dict) else __builtins__)
+ALLOWED = set(
+    "len range enumerate zip min max sum abs sorted reversed int str bool list tuple dict set frozenset isinstance "
+    "ord repr any all divmod ValueError KeyError IndexError LookupError ZeroDivisionError ArithmeticError "
+    "OverflowError RuntimeError NotImplementedError Exception StopIteration True False None".split()
+)
+SPECIAL = {"__init__", "__eq__", "__repr__", "__str__", "__len__"}
+
+
+def sources():
+    return [(path.name, path.read_text(encoding="ascii")) for path in sorted(PACKAGE.glob("*.py"))]
+
+
+class FormTest(unittest.TestCase):
+    def each_node(self):
+        for name, text in sources():
+            for node in ast.walk(ast.parse(text)):
+                yield f"{name}:{getattr(node, 'lineno', 0)}", node
+
+    def test_only_plain_files_lie_in_the_package(self):
+        names = [path.name for path in PACKAGE.iterdir() if path.name != "__pycache__"]
+        self.assertIn("__init__.py", names)
+        for name in names:
+            self.assertRegex(name, r"\A(__init__|[a-z][a-z0-9_]*)\.py\Z")
+
+    def test_signs_and_sizes(self):
+        for name, text in sources():
+            self.assertLessEqual(len(text.splitlines()), 400, name)
+            for sign in set(text):
+                self.assertTrue(sign == "\n" or " " <= sign <= "~", (name, sign))
+            for row in text.splitlines():
+                self.assertLessEqual(len(row), 120, (name, row))
+        for place, node in self.each_node():
+            if isinstance(node, ast.FunctionDef):
+                self.assertLessEqual(node.end_lineno - node.lineno + 1, 40, place)
+
+    def test_statements(self):
+        for place, node in self.each_node():
+            if isinstance(node, ast.stmt):
+                self.assertIsInstance(node, STATEMENTS, place)
+            if isinstance(node, ast.Assign):
+                self.assertEqual(len(node.targets), 1, place)
+            if isinstance(node, (ast.For, ast.While)):
+                self.assertEqual(node.orelse, [], place)
+            if isinstance(node, ast.Try):
+                self.assertEqual(node.finalbody, [], place)
+            if isinstance(node, (ast.FunctionDef, ast.ClassDef)):
+                self.assertEqual(node.decorator_list, [], place)
+
+    def test_expressions(self):
+        for place, node in self.each_node():
+            self.assertNotIsInstance(node, NO_EXPRESSIONS, place)
+            if isinstance(node, ast.BinOp):
+                self.assertNotIsInstance(node.op, ast.Div, place)
+            if isinstance(node, ast.Constant):
+                self.assertNotIsInstance(node.value, (float, complex, bytes), place)
+
+    def test_imports_are_the_package_s_own(self):
+        for place, node in self.each_node():
+            if isinstance(node, ast.ImportFrom):
+                self.assertEqual(node.level, 0, place)
+                self.assertTrue(node.module.startswith("farfloor."), place)
+
+    def test_names(self):
+        for place, node in self.each_node():
+            if isinstance(node, ast.Name):
+                self.assertFalse(node.id.startswith("_"), place)
+                self.assertFalse(node.id in BUILTINS and node.id not in ALLOWED, place)
+            if isinstance(node, ast.arg):
+                self.assertNotIn(node.arg, BUILTINS, place)
+            if isinstance(node, ast.Attribute):
+                self.assertTrue(not node.attr.startswith("_") or node.attr in SPECIAL, place)
+
+
+if __name__ == "__main__":
+    unittest.main()
