@@ -46,8 +46,10 @@ def moved(floor, way):
     return painted(steps, colour)
 
 
-def stretched(floor, y, wide):
-    return floor.along(0, y) * (wide // floor.steps.wide)
+def stretched(floor, x, y, wide):
+    # So many signs of the row from the cell on, however wide the floor's own piece is.
+    times = wide // floor.steps.wide + 1
+    return (floor.along(x, y) * times)[:wide]
 
 
 def mixed(one, other, choice):
@@ -55,8 +57,8 @@ def mixed(one, other, choice):
     rows = []
     # Whole rows at a time: what both share may be many thousand times as great as a piece of theirs.
     for y in range(steps.high):
-        first = stretched(one, y, steps.wide)
-        second = stretched(other, y, steps.wide)
+        first = stretched(one, 0, y, steps.wide)
+        second = stretched(other, 0, y, steps.wide)
         rows.append("".join([choice(near, far) for near, far in zip(first, second)]))
     return Floor(rows, steps.slip)
 

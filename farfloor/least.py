@@ -14,11 +14,11 @@ def multiple(one, other):
     return one // shared(one, other) * other
 
 
-def slip_at(floor, high, periods):
-    # The slip with which so many rows up keep the floor. Each row tells it but for its own period.
+def slip_at(rows, periods, floor, high):
+    # The slip with which the rows stand in the floor, so high up. Each row tells it but for its own period.
     slip = 0
     wide = 1
-    for y, row in enumerate(floor.rows):
+    for y, row in enumerate(rows):
         ahead = floor.along(0, y + high)
         place = (ahead + ahead).find(row)
         if place < 0:
@@ -39,7 +39,7 @@ def keeping(floor):
     # The floor's own steps keep it, so the least height that does divides theirs.
     for high in range(1, steps.high):
         if steps.high % high == 0:
-            slip = slip_at(floor, high, periods)
+            slip = slip_at(floor.rows, periods, floor, high)
             if slip is not None:
                 return Steps(wide, slip, high)
     return Steps(wide, steps.slip, steps.high)
@@ -52,6 +52,9 @@ def least(floor):
 
 
 def unlike_place(one, other):
+    # Mostly the two are alike, and whole texts are held against each other much faster than sign by sign.
+    if one == other:
+        return None
     for x, pair in enumerate(zip(one, other)):
         if pair[0] != pair[1]:
             return x

@@ -80,8 +80,20 @@ class FormTest(unittest.TestCase):
             self.assertNotIsInstance(node, NO_EXPRESSIONS, place)
             if isinstance(node, ast.BinOp):
                 self.assertNotIsInstance(node.op, ast.Div, place)
+                self.assertFalse(isinstance(node.op, ast.Pow) and not isinstance(node.right, ast.Constant), place)
             if isinstance(node, ast.Constant):
                 self.assertNotIsInstance(node.value, (float, complex, bytes), place)
+                self.assertNotIn("%", str(node.value), place)
+            if isinstance(node, ast.FormattedValue):
+                self.assertIsInstance(node.value, ast.Name, place)
+                self.assertIsNone(node.format_spec, place)
+            if isinstance(node, ast.Compare):
+                for sort, side in zip(node.ops, node.comparators):
+                    if isinstance(sort, (ast.Is, ast.IsNot)):
+                        self.assertTrue(isinstance(side, ast.Constant) and side.value in (None, True, False), place)
+            if isinstance(node, ast.ListComp):
+                self.assertEqual(len(node.generators), 1, place)
+                self.assertLessEqual(len(node.generators[0].ifs), 1, place)
 
     def test_imports_are_the_package_s_own(self):
         for place, node in self.each_node():
